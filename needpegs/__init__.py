@@ -1,0 +1,1 @@
+"""Needpegs: boards of pegs that need one another and bar one another."""

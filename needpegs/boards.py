@@ -1,0 +1,123 @@
+"""Boards: pegs in a fixed order, with their costs, what they need and with what they clash."""
+
+from needpegs.checks import check_costs, check_form, check_pegs, pair_places
+from needpegs.errors import NoPeg
+from needpegs.masks import places_in
+from needpegs.names import right_name
+from needpegs.relations import above_masks, below_masks, clash_masks
+from needpegs.stands import Stand
+
+
+class Board:
+    """A board. It never changes."""
+
+    MOST = 12
+
+    def __init__(self, pegs, *, needs=(), bars=(), costs=None):
+        check_form(pegs, needs, bars, costs)
+        check_pegs(pegs, Board.MOST)
+        check_costs(costs, len(pegs))
+        places = {peg: place for place, peg in enumerate(pegs)}
+        below = below_masks(len(pegs), pair_places("need", needs, places))
+        clash = clash_masks(below, pair_places("bar", bars, places))
+        self._pegs = tuple(pegs)
+        self._places = places
+        self._costs = (1,) * len(pegs) if costs is None else tuple(costs)
+        self._below = tuple(below)
+        self._above = tuple(above_masks(below))
+        self._clash = tuple(clash)
+
+    @staticmethod
+    def is_name(text):
+        """Whether a string is a name."""
+        return right_name(text)
+
+    @property
+    def pegs(self):
+        """The pegs, in board order."""
+        return self._pegs
+
+    @property
+    def empty(self):
+        """The stand at which no peg is in."""
+        return Stand(self, ())
+
+    def __len__(self):
+        return len(self._pegs)
+
+    def __contains__(self, x):
+        return x in self._places
+
+    def __eq__(self, other):
+        return (
+            isinstance(other, Board)
+            and self._pegs == other._pegs
+            and self._costs == other._costs
+            and self._below == other._below
+            and self._clash == other._clash
+        )
+
+    def __repr__(self):
+        return f"Board({len(self._pegs)} pegs)"
+
+    def __call__(self, pegs):
+        return Stand(self, pegs)
+
+    def stand(self, *pegs):
+        """The stand with these pegs in."""
+        return Stand(self, pegs)
+
+    def cost_of(self, peg):
+        """The cost of a peg."""
+        return self._costs[self.place_of(peg)]
+
+    def below(self, peg):
+        """The peg and all pegs that it needs."""
+        return self.pegs_of(self._below[self.place_of(peg)])
+
+    def above(self, peg):
+        """The peg and all pegs that need it."""
+        return self.pegs_of(self._above[self.place_of(peg)])
+
+    def needs(self, peg, other):
+        """Whether a peg needs another one."""
+        place, needed = self.place_of(peg), self.place_of(other)
+        return place != needed and (self._below[place] >> needed) & 1 == 1
+
+    def clash(self, peg, other):
+        """Whether two pegs clash."""
+        place, against = self.place_of(peg), self.place_of(other)
+        return (self._clash[place] >> against) & 1 == 1
+
+    def place_of(self, peg):
+        """The place of a peg in the board order."""
+        if peg not in self._places:
+            raise NoPeg(peg)
+        return self._places[peg]
+
+    def mask_of(self, pegs):
+        """The mask of some pegs."""
+        mask = 0
+        for peg in pegs:
+            mask = mask | (1 << self.place_of(peg))
+        return mask
+
+    def pegs_of(self, mask):
+        """The pegs in a mask, in board order."""
+        return tuple([self._pegs[place] for place in places_in(mask)])
+
+    def cost_in(self, mask):
+        """The sum of the costs of the pegs in a mask."""
+        return sum([self._costs[place] for place in places_in(mask)])
+
+    def below_mask(self, place):
+        """The mask of below for the peg at a place."""
+        return self._below[place]
+
+    def above_mask(self, place):
+        """The mask of above for the peg at a place."""
+        return self._above[place]
+
+    def clash_mask(self, place):
+        """The mask of the pegs that clash with the peg at a place."""
+        return self._clash[place]

@@ -1,0 +1,85 @@
+"""Boards for the tests, and what they must do, told a second time with sets of names."""
+
+import itertools
+
+from needpegs.boards import Board
+
+PEGS = ("a", "b", "c", "d")
+NEEDS = (("b", "a"), ("c", "a"))
+BARS = (("b", "c"),)
+COSTS = (1, 2, 3, 1)
+
+
+def example():
+    """The board of the document's examples, made anew."""
+    return Board(PEGS, needs=NEEDS, bars=BARS, costs=COSTS)
+
+
+def caught(call, *values, **named):
+    """The class of the error that a call raises and the values that the error keeps, or None."""
+    try:
+        call(*values, **named)
+    except (ValueError, KeyError) as error:
+        return (type(error).__name__, *vars(error).values())
+    return None
+
+
+class Model:
+    """A board as sets of names, computed from the definitions alone."""
+
+    def __init__(self, pegs, needs, bars):
+        self.pegs = pegs
+        self.below = {peg: self._below(peg, needs) for peg in pegs}
+        self.bars = set(bars) | {(other, one) for one, other in bars}
+
+    def _below(self, peg, needs):
+        found = {peg}
+        while True:
+            more = {needed for one, needed in needs if one in found} - found
+            if not more:
+                return found
+            found |= more
+
+    def needs(self, peg, other):
+        return peg != other and other in self.below[peg]
+
+    def clash(self, peg, other):
+        if peg == other:
+            return False
+        return any((p, q) in self.bars for p in self.below[peg] for q in self.below[other])
+
+    def is_stand(self, pegs):
+        closed = all(self.below[peg] <= set(pegs) for peg in pegs)
+        return closed and not any(self.clash(one, other) for one, other in itertools.combinations(pegs, 2))
+
+    def is_dead(self, peg):
+        return any((p, q) in self.bars for p in self.below[peg] for q in self.below[peg])
+
+    def ordered(self, pegs):
+        return tuple(peg for peg in self.pegs if peg in pegs)
+
+    def subsets(self):
+        for many in range(len(self.pegs) + 1):
+            yield from itertools.combinations(self.pegs, many)
+
+    def stands(self):
+        return [pegs for pegs in self.subsets() if self.is_stand(pegs)]
+
+
+def chosen(pairs):
+    """All choices of some of the pairs."""
+    for many in range(len(pairs) + 1):
+        yield from itertools.combinations(pairs, many)
+
+
+def models():
+    """All boards of three pegs that need only earlier or only later ones, each beside its model."""
+    pegs = ("x", "y", "z")
+    later = tuple(itertools.combinations(pegs, 2))
+    earlier = tuple((one, other) for other, one in later)
+    for needs in list(chosen(later)) + list(chosen(earlier)):
+        for bars in chosen(later):
+            model = Model(pegs, needs, bars)
+            if not any(model.is_dead(peg) for peg in pegs):
+                yield Board(pegs, needs=needs, bars=bars, costs=(5, 7, 11)), model
+    yield example(), Model(PEGS, NEEDS, BARS)

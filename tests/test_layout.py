@@ -1,0 +1,180 @@
+"""The shape of the package: the rows of the interface, and those rules of the subset that a test sees easily."""
+
+import ast
+import builtins
+import importlib
+import inspect
+import pathlib
+import unittest
+
+FOLDER = pathlib.Path(__file__).resolve().parent.parent / "needpegs"
+
+# Each module with its classes and functions, and for each class what must stand in its own body.
+INTERFACE = {
+    "turns": {
+        "Turn": {"read": ("text",)},
+        "Put": {"__init__": ("self", "peg"), "__call__": ("self", "stand"), "__neg__": ("self",), "__eq__": None,
+                "__repr__": ("self",)},
+        "Take": {"__init__": ("self", "peg"), "__call__": ("self", "stand"), "__neg__": ("self",), "__eq__": None,
+                 "__repr__": ("self",)},
+    },
+    "ways": {
+        "Way": {"__init__": ("self", "board", "turns"), "board": None, "turns": None, "stands": ("self", "start"),
+                "__call__": ("self", "stand"), "__neg__": ("self",), "__add__": None, "__abs__": ("self",),
+                "__len__": ("self",), "__bool__": ("self",), "__eq__": None, "__repr__": ("self",),
+                "read": ("cls", "board", "text")},
+    },
+    "boards": {
+        "Board": {"__init__": ("self", "pegs", "needs", "bars", "costs"), "MOST": None, "pegs": None, "empty": None,
+                  "cost_of": ("self", "peg"), "below": ("self", "peg"), "above": ("self", "peg"),
+                  "needs": ("self", "peg", "other"), "clash": ("self", "peg", "other"), "stand": ("self", "pegs"),
+                  "__call__": ("self", "pegs"), "__len__": None, "__contains__": None, "__eq__": None,
+                  "__repr__": None, "is_name": ("text",)},
+    },
+    "stands": {
+        "Stand": {"__init__": ("self", "board", "pegs"), "board": None, "pegs": None, "free": None, "loose": None,
+                  "put": ("self", "peg"), "take": ("self", "peg"), "within": ("self", "other"),
+                  "distance": ("self", "other"), "middle": ("self", "one", "other"),
+                  "is_between": ("self", "one", "other"), "__and__": None, "__or__": None, "__xor__": None,
+                  "__add__": None, "__len__": None, "__contains__": None, "__bool__": None, "__eq__": None,
+                  "__repr__": None},
+    },
+}
+PROPERTIES = (
+    ("boards", "Board", ("pegs", "empty")),
+    ("stands", "Stand", ("board", "pegs", "free", "loose")),
+    ("ways", "Way", ("board", "turns")),
+)
+BUILTINS = set("""
+len range enumerate zip min max sum abs sorted reversed int str bool bytes list tuple dict set isinstance ord repr any
+all divmod Exception ValueError TypeError KeyError IndexError LookupError NotImplemented iter next map
+property staticmethod classmethod super
+""".split())
+
+
+def trees():
+    for path in sorted(FOLDER.glob("*.py")):
+        yield path.name, ast.parse(path.read_text(encoding="ascii"))
+
+
+def imported(tree):
+    return [node for node in ast.walk(tree) if isinstance(node, (ast.Import, ast.ImportFrom))]
+
+
+class InterfaceTest(unittest.TestCase):
+    def test_each_class_is_defined_in_its_file(self):
+        for module, classes in INTERFACE.items():
+            for name in classes:
+                found = getattr(importlib.import_module(f"needpegs.{module}"), name)
+                self.assertEqual(found.__module__, f"needpegs.{module}")
+
+    def test_each_method_stands_in_the_body_of_its_class(self):
+        for module, classes in INTERFACE.items():
+            for name, members in classes.items():
+                body = vars(getattr(importlib.import_module(f"needpegs.{module}"), name))
+                for member, parameters in members.items():
+                    with self.subTest(name, member=member):
+                        self.assertIn(member, body)
+                        self.check_parameters(body[member], parameters)
+
+    def check_parameters(self, member, parameters):
+        if parameters is not None:
+            function = getattr(member, "__func__", member)
+            self.assertEqual(tuple(inspect.signature(function).parameters), parameters)
+
+    def test_kinds_of_members(self):
+        for module, name, properties in PROPERTIES:
+            kind = getattr(importlib.import_module(f"needpegs.{module}"), name)
+            for member in properties:
+                self.assertIsInstance(vars(kind)[member], property)
+        turns, ways, boards = [importlib.import_module(f"needpegs.{word}") for word in ("turns", "ways", "boards")]
+        self.assertIsInstance(vars(turns.Turn)["read"], staticmethod)
+        self.assertIsInstance(vars(ways.Way)["read"], classmethod)
+        self.assertIsInstance(vars(boards.Board)["is_name"], staticmethod)
+        self.assertTrue(inspect.isgeneratorfunction(ways.Way.stands))
+
+    def test_attributes_of_turns_are_set_on_each_object(self):
+        turns = importlib.import_module("needpegs.turns")
+        self.assertEqual(vars(turns.Put("a")), {"peg": "a", "sign": "+"})
+        self.assertEqual(vars(turns.Take("a")), {"peg": "a", "sign": "-"})
+
+
+class FilesTest(unittest.TestCase):
+    def test_the_folder_holds_only_modules(self):
+        for path in FOLDER.iterdir():
+            self.assertTrue(path.suffix == ".py" or path.name == "__pycache__", path)
+
+    def test_the_first_file_is_only_a_docstring(self):
+        tree = ast.parse((FOLDER / "__init__.py").read_text(encoding="ascii"))
+        self.assertEqual(len(tree.body), 1)
+        self.assertIsNotNone(ast.get_docstring(tree))
+
+    def test_sizes_and_characters(self):
+        for path in FOLDER.glob("*.py"):
+            text = path.read_text(encoding="ascii")
+            lines = text.split("\n")
+            self.assertLessEqual(len(lines), 399, path)
+            self.assertLessEqual(max(len(line) for line in lines), 120, path)
+            self.assertTrue(all(" " <= letter <= "~" or letter == "\n" for letter in text), path)
+            self.assertNotIn("%", text, path)
+
+    def test_sizes_of_functions(self):
+        for name, tree in trees():
+            for node in ast.walk(tree):
+                if isinstance(node, ast.FunctionDef):
+                    self.assertLessEqual(node.end_lineno - node.lineno + 1, 40, (name, node.name))
+
+
+class SubsetTest(unittest.TestCase):
+    def test_imports_are_from_the_package_and_name_the_defining_file(self):
+        for name, tree in trees():
+            for node in imported(tree):
+                self.assertIsInstance(node, ast.ImportFrom, name)
+                self.assertTrue(node.module.startswith("needpegs.") and node.level == 0, (name, node.module))
+                module = importlib.import_module(node.module)
+                for word in node.names:
+                    found = getattr(module, word.name)
+                    self.assertEqual(getattr(found, "__module__", node.module), node.module, (name, word.name))
+
+    def test_no_two_files_import_from_each_other(self):
+        left = {name[:-3]: {node.module.split(".")[1] for node in imported(tree)} for name, tree in trees()}
+        while left:
+            ends = [name for name, others in left.items() if not others & set(left)]
+            self.assertTrue(ends, left)
+            left = {name: others for name, others in left.items() if name not in ends}
+
+    def test_only_listed_builtins_are_used(self):
+        for name, tree in trees():
+            for node in ast.walk(tree):
+                if isinstance(node, ast.Name) and hasattr(builtins, node.id):
+                    self.assertIn(node.id, BUILTINS, (name, node.lineno))
+                    self.assertIsInstance(node.ctx, ast.Load, (name, node.lineno))
+
+    def test_no_barred_statements_and_expressions(self):
+        barred = (ast.GeneratorExp, ast.Global, ast.AsyncFunctionDef, ast.Set, ast.Div)
+        for name, tree in trees():
+            for node in ast.walk(tree):
+                if isinstance(node, ast.Compare) and isinstance(node.ops[0], (ast.Is, ast.IsNot)):
+                    self.assertIsInstance(node.comparators[0], ast.Constant, (name, node.lineno))
+                elif isinstance(node, barred):
+                    self.fail((name, node))
+                self.assertFalse(isinstance(node, ast.Constant) and isinstance(node.value, float), name)
+
+    def test_values_of_class_names_and_module_names_are_plain(self):
+        allowed = (ast.Expr, ast.ImportFrom, ast.FunctionDef, ast.ClassDef, ast.Assign)
+        for name, tree in trees():
+            for node in tree.body:
+                self.assertIsInstance(node, allowed, name)
+                if isinstance(node, ast.Assign):
+                    ast.literal_eval(node.value)
+
+    def test_properties_are_not_attributes_anywhere(self):
+        found = {member for module, name, members in PROPERTIES for member in members}
+        for name, tree in trees():
+            for node in ast.walk(tree):
+                if isinstance(node, ast.Attribute) and not isinstance(node.ctx, ast.Load):
+                    self.assertNotIn(node.attr, found, (name, node.lineno))
+
+
+if __name__ == "__main__":
+    unittest.main()
