@@ -52,6 +52,9 @@ class Model:
         closed = all(self.below[peg] <= set(pegs) for peg in pegs)
         return closed and not any(self.clash(one, other) for one, other in itertools.combinations(pegs, 2))
 
+    def is_circular(self):
+        return any(self.needs(one, other) and self.needs(other, one) for one in self.pegs for other in self.pegs)
+
     def is_dead(self, peg):
         return any((p, q) in self.bars for p in self.below[peg] for q in self.below[peg])
 
@@ -73,13 +76,11 @@ def chosen(pairs):
 
 
 def models():
-    """All boards of three pegs that need only earlier or only later ones, each beside its model."""
+    """All boards of three pegs, and the example, each with its model."""
     pegs = ("x", "y", "z")
-    later = tuple(itertools.combinations(pegs, 2))
-    earlier = tuple((one, other) for other, one in later)
-    for needs in list(chosen(later)) + list(chosen(earlier)):
-        for bars in chosen(later):
+    for needs in chosen(tuple(itertools.permutations(pegs, 2))):
+        for bars in chosen(tuple(itertools.combinations(pegs, 2))):
             model = Model(pegs, needs, bars)
-            if not any(model.is_dead(peg) for peg in pegs):
+            if not model.is_circular() and not any(model.is_dead(peg) for peg in pegs):
                 yield Board(pegs, needs=needs, bars=bars, costs=(5, 7, 11)), model
     yield example(), Model(PEGS, NEEDS, BARS)
