@@ -1,11 +1,14 @@
 """Boards: pegs in a fixed order, with their costs, what they need and with what they clash."""
 
 from needpegs.checks import check_costs, check_form, check_pegs, pair_places
-from needpegs.errors import NoPeg
-from needpegs.masks import places_in
+from needpegs.errors import NoBoard, NoMatch, NoPeg
+from needpegs.families import family_parts
+from needpegs.masks import names_in, places_in
 from needpegs.names import right_name
-from needpegs.relations import above_masks, below_masks, clash_masks
+from needpegs.pairs import clash_pairs, need_pairs
+from needpegs.relations import above_masks, below_masks, clash_masks, needs_order, stand_masks
 from needpegs.stands import Stand
+from needpegs.texts import text_parts
 
 
 class Board:
@@ -26,11 +29,24 @@ class Board:
         self._below = tuple(below)
         self._above = tuple(above_masks(below))
         self._clash = tuple(clash)
+        self._order = tuple(needs_order(below))
 
     @staticmethod
     def is_name(text):
         """Whether a string is a name."""
         return right_name(text)
+
+    @classmethod
+    def read(cls, text):
+        """The board that the lines of a text describe."""
+        pegs, costs, needs, bars = text_parts(text, cls.MOST)
+        return cls(pegs, needs=needs, bars=bars, costs=costs)
+
+    @classmethod
+    def of_family(cls, sets):
+        """The board whose stands are these sets."""
+        pegs, needs, bars = family_parts(sets)
+        return cls(pegs, needs=needs, bars=bars)
 
     @property
     def pegs(self):
@@ -60,12 +76,43 @@ class Board:
     def __repr__(self):
         return f"Board({len(self._pegs)} pegs)"
 
+    def __add__(self, other):
+        common = [peg for peg in other.pegs if peg in self._places]
+        if any([self.cost_of(peg) != other.cost_of(peg) for peg in common]):
+            raise NoMatch("cost")
+        more = [peg for peg in other.pegs if peg not in self._places]
+        costs = list(self._costs) + [other.cost_of(peg) for peg in more]
+        needs = need_pairs(self) + need_pairs(other)
+        bars = clash_pairs(self) + clash_pairs(other)
+        try:
+            return Board(list(self._pegs) + more, needs=needs, bars=bars, costs=costs)
+        except NoBoard as error:
+            # Of two right boards only "pegs", "circle" and "dead" are left, and Board finds them in this order.
+            raise NoMatch(error.word) from None
+
+    def __sub__(self, other):
+        above = self.above(other)
+        left = [peg for peg in self._pegs if peg not in above]
+        # What a peg that is left needs is left, too.
+        needs = [(peg, needed) for peg, needed in need_pairs(self) if peg in left]
+        bars = [(peg, barred) for peg, barred in clash_pairs(self) if peg in left and barred in left]
+        return Board(left, needs=needs, bars=bars, costs=[self.cost_of(peg) for peg in left])
+
     def __call__(self, pegs):
         return Stand(self, pegs)
 
     def stand(self, *pegs):
         """The stand with these pegs in."""
         return Stand(self, pegs)
+
+    def stands(self):
+        """All stands, first those with fewer pegs."""
+        for mask in stand_masks(self._below, self._clash, self._order):
+            yield Stand(self, self.pegs_of(mask))
+
+    def count_stands(self):
+        """The number of stands."""
+        return len(stand_masks(self._below, self._clash, self._order))
 
     def cost_of(self, peg):
         """The cost of a peg."""
@@ -104,7 +151,11 @@ class Board:
 
     def pegs_of(self, mask):
         """The pegs in a mask, in board order."""
-        return tuple([self._pegs[place] for place in places_in(mask)])
+        return names_in(self._pegs, mask)
+
+    def pegs_by_needs(self, mask):
+        """The pegs in a mask, each behind those that it needs."""
+        return [self._pegs[place] for place in self._order if (mask >> place) & 1]
 
     def cost_in(self, mask):
         """The sum of the costs of the pegs in a mask."""

@@ -53,8 +53,13 @@ def check_costs(costs, many):
     if len(costs) != many:
         raise NoBoard("costs", 0)
     for at, cost in enumerate(costs):
-        if not LEAST_COST <= cost <= MOST_COST:
+        if not right_cost(cost):
             raise NoBoard("cost", at)
+
+
+def right_cost(cost):
+    """Whether a peg may have this cost."""
+    return LEAST_COST <= cost <= MOST_COST
 
 
 def pair_places(word, pairs, places):

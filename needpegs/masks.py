@@ -16,6 +16,16 @@ def mask_with(places):
     return sum([1 << place for place in places])
 
 
+def names_in(names, mask):
+    """The names at the places in a mask."""
+    return tuple([names[place] for place in places_in(mask)])
+
+
+def middle_mask(one, two, three):
+    """The mask of the places that are in two of three masks at least."""
+    return (one & (two | three)) | (two & three)
+
+
 def joined(rows, mask):
     """The mask of all places that are in some row at a place of the mask."""
     whole = 0

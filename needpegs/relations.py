@@ -1,7 +1,7 @@
-"""What needs and bars mean: for each place of the board order the masks of below, above and clash."""
+"""What needs and bars mean: for each place of the board order the masks of below, above and clash, and the stands."""
 
 from needpegs.errors import NoBoard
-from needpegs.masks import joined, mask_with
+from needpegs.masks import joined, mask_with, places_in
 
 
 def below_masks(many, needs):
@@ -42,3 +42,25 @@ def barred_masks(many, bars):
 def rows_that_meet(rows, mask):
     """The mask of the places whose row has a place in common with a mask."""
     return mask_with([place for place, row in enumerate(rows) if row & mask != 0])
+
+
+def needs_order(below):
+    """The places, each behind those that it needs."""
+    # A peg has more pegs below it than each peg that it needs.
+    return [place for many, place in sorted([(len(places_in(row)), place) for place, row in enumerate(below)])]
+
+
+def stand_masks(below, clash, order):
+    """The masks of all stands, first those of fewer places; the order has each place behind those that it needs."""
+    masks = [0]
+    for place in order:
+        # The part of a stand up to each place of this order is a stand, too, so every stand grows from smaller ones.
+        lone = 1 << place
+        masks = masks + [mask | lone for mask in masks if below[place] & ~mask == lone and clash[place] & mask == 0]
+    return sorted(masks, key=listing_key)
+
+
+def listing_key(mask):
+    """What puts masks in the order in which stands are listed."""
+    places = places_in(mask)
+    return len(places), places

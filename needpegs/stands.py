@@ -1,7 +1,9 @@
 """Stands: sets of pegs that are in at the same time."""
 
 from needpegs.errors import Barred, Missing, Needed, NoMatch, NoTurn
-from needpegs.masks import first_place, places_in
+from needpegs.masks import first_place, middle_mask, places_in
+from needpegs.turns import Put, Take
+from needpegs.ways import Way
 
 
 def check_needs(board, place, mask):
@@ -80,6 +82,13 @@ class Stand:
         self.check_board(other)
         return self._board.pegs_of(self._mask ^ other._mask)
 
+    def __sub__(self, other):
+        self.check_board(other)
+        # What goes out goes first, so that nothing that goes in is barred; what is needed goes out last and in first.
+        takes = [Take(peg) for peg in self._board.pegs_by_needs(other._mask & ~self._mask)[::-1]]
+        puts = [Put(peg) for peg in self._board.pegs_by_needs(self._mask & ~other._mask)]
+        return Way(self._board, takes + puts)
+
     def __add__(self, other):
         return other.after(self)
 
@@ -117,7 +126,7 @@ class Stand:
         """The stand of the pegs that are in at two of three stands at least."""
         self.check_board(one)
         self.check_board(other)
-        return self.beside((self._mask & (one._mask | other._mask)) | (one._mask & other._mask))
+        return self.beside(middle_mask(self._mask, one._mask, other._mask))
 
     def is_between(self, one, other):
         """Whether this stand is between two others."""

@@ -9,6 +9,13 @@ NEEDS = (("b", "a"), ("c", "a"))
 BARS = (("b", "c"),)
 COSTS = (1, 2, 3, 1)
 
+# Values of all kinds, none of which is a right value in most places.
+ODD = (
+    None, True, False, 0, 1, -1, 10 ** 40, "", "a", "ab", "A", "\n", (), [], (None,), [None], ("a",), ["a"], ("a", "a"),
+    ("a", 1), (("a",),), (("a", "b"),), [("a", "b")], (["a", "b"],), (("a", "b", "c"),), (1, True), (True,), [1, 1, 1],
+    (((((((("a",),),),),),),),), [[[[[[[[]]]]]]]],
+)
+
 
 def example():
     """The board of the document's examples, made anew."""
@@ -67,6 +74,34 @@ class Model:
 
     def stands(self):
         return [pegs for pegs in self.subsets() if self.is_stand(pegs)]
+
+
+def numbers(seed):
+    """Disordered numbers without an end, the same ones for each seed."""
+    while True:
+        seed = (seed * 6364136223846793005 + 1442695040888963407) % 2 ** 64
+        yield seed >> 33
+
+
+def grown(many, seed, names="abcdefghijkl"):
+    """The pegs, needs, bars and costs of a disordered board with so many pegs."""
+    draw = numbers(seed * 100 + many)
+    pegs = tuple(sorted(names, key=lambda name: next(draw))[:many])
+    upward = sorted(pegs, key=lambda peg: next(draw))
+    needs = tuple((one, other) for other, one in itertools.combinations(upward, 2) if next(draw) % 4 == 0)
+    bars = ()
+    for pair in itertools.permutations(pegs, 2):
+        model = Model(pegs, needs, bars + (pair,))
+        if next(draw) % 6 == 0 and not any(model.is_dead(peg) for peg in pegs):
+            bars += (pair,)
+    return pegs, needs, bars, tuple(next(draw) % 1000 + 1 for peg in pegs)
+
+
+def grown_models(most, seeds):
+    """Disordered boards with none to the most pegs, for so many seeds, each with its model."""
+    for many, seed in itertools.product(range(most + 1), range(seeds)):
+        pegs, needs, bars, costs = grown(many, seed)
+        yield Board(pegs, needs=needs, bars=bars, costs=costs), Model(pegs, needs, bars)
 
 
 def chosen(pairs):

@@ -28,17 +28,22 @@ INTERFACE = {
         "Board": {"__init__": ("self", "pegs", "needs", "bars", "costs"), "MOST": None, "pegs": None, "empty": None,
                   "cost_of": ("self", "peg"), "below": ("self", "peg"), "above": ("self", "peg"),
                   "needs": ("self", "peg", "other"), "clash": ("self", "peg", "other"), "stand": ("self", "pegs"),
-                  "__call__": ("self", "pegs"), "__len__": None, "__contains__": None, "__eq__": None,
-                  "__repr__": None, "is_name": ("text",)},
+                  "stands": ("self",), "count_stands": ("self",), "__call__": ("self", "pegs"), "__add__": None,
+                  "__sub__": None, "__len__": None, "__contains__": None, "__eq__": None, "__repr__": None,
+                  "is_name": ("text",), "read": ("cls", "text"), "of_family": ("cls", "sets")},
     },
     "stands": {
         "Stand": {"__init__": ("self", "board", "pegs"), "board": None, "pegs": None, "free": None, "loose": None,
                   "put": ("self", "peg"), "take": ("self", "peg"), "within": ("self", "other"),
                   "distance": ("self", "other"), "middle": ("self", "one", "other"),
                   "is_between": ("self", "one", "other"), "__and__": None, "__or__": None, "__xor__": None,
-                  "__add__": None, "__len__": None, "__contains__": None, "__bool__": None, "__eq__": None,
-                  "__repr__": None},
+                  "__add__": None, "__sub__": None, "__len__": None, "__contains__": None, "__bool__": None,
+                  "__eq__": None, "__repr__": None},
     },
+}
+FUNCTIONS = {
+    "texts": {"show_board": ("board",)},
+    "families": {"family_of": ("board",), "witness_holds": ("sets", "word", "value")},
 }
 PROPERTIES = (
     ("boards", "Board", ("pegs", "empty")),
@@ -50,6 +55,7 @@ len range enumerate zip min max sum abs sorted reversed int str bool bytes list 
 all divmod Exception ValueError TypeError KeyError IndexError LookupError NotImplemented iter next map
 property staticmethod classmethod super
 """.split())
+METHODS = set("append bit_length get join split".split())
 
 
 def trees():
@@ -67,6 +73,13 @@ class InterfaceTest(unittest.TestCase):
             for name in classes:
                 found = getattr(importlib.import_module(f"needpegs.{module}"), name)
                 self.assertEqual(found.__module__, f"needpegs.{module}")
+
+    def test_each_function_is_defined_in_its_file(self):
+        for module, functions in FUNCTIONS.items():
+            for name, parameters in functions.items():
+                found = getattr(importlib.import_module(f"needpegs.{module}"), name)
+                self.assertEqual(found.__module__, f"needpegs.{module}")
+                self.assertEqual(tuple(inspect.signature(found).parameters), parameters)
 
     def test_each_method_stands_in_the_body_of_its_class(self):
         for module, classes in INTERFACE.items():
@@ -91,7 +104,10 @@ class InterfaceTest(unittest.TestCase):
         self.assertIsInstance(vars(turns.Turn)["read"], staticmethod)
         self.assertIsInstance(vars(ways.Way)["read"], classmethod)
         self.assertIsInstance(vars(boards.Board)["is_name"], staticmethod)
+        self.assertIsInstance(vars(boards.Board)["read"], classmethod)
+        self.assertIsInstance(vars(boards.Board)["of_family"], classmethod)
         self.assertTrue(inspect.isgeneratorfunction(ways.Way.stands))
+        self.assertTrue(inspect.isgeneratorfunction(boards.Board.stands))
 
     def test_attributes_of_turns_are_set_on_each_object(self):
         turns = importlib.import_module("needpegs.turns")
@@ -159,6 +175,31 @@ class SubsetTest(unittest.TestCase):
                 elif isinstance(node, barred):
                     self.fail((name, node))
                 self.assertFalse(isinstance(node, ast.Constant) and isinstance(node.value, float), name)
+
+    def test_what_has_the_name_of_a_generator_is_one(self):
+        kinds = {}
+        for _, tree in trees():
+            for node in ast.walk(tree):
+                if isinstance(node, ast.FunctionDef):
+                    yields = any(isinstance(part, (ast.Yield, ast.YieldFrom)) for part in ast.walk(node))
+                    self.assertIs(kinds.setdefault(node.name, yields), yields, node.name)
+
+    def test_only_listed_methods_of_builtin_values_are_called(self):
+        for name, tree in trees():
+            for node in ast.walk(tree):
+                if isinstance(node, ast.Call) and isinstance(node.func, ast.Attribute):
+                    kinds = [kind for kind in (str, list, dict, tuple, set, int) if hasattr(kind, node.func.attr)]
+                    if kinds:
+                        self.assertIn(node.func.attr, METHODS, (name, node.lineno))
+
+    def test_no_name_of_an_import_is_given_another_meaning(self):
+        for name, tree in trees():
+            words = {word.name for node in imported(tree) for word in node.names}
+            for node in ast.walk(tree):
+                if isinstance(node, ast.arg):
+                    self.assertNotIn(node.arg, words, (name, node.lineno))
+                if isinstance(node, ast.Name) and not isinstance(node.ctx, ast.Load):
+                    self.assertNotIn(node.id, words, (name, node.lineno))
 
     def test_values_of_class_names_and_module_names_are_plain(self):
         allowed = (ast.Expr, ast.ImportFrom, ast.FunctionDef, ast.ClassDef, ast.Assign)

@@ -1,18 +1,28 @@
-"""Stands: [20] to [22], as far as ways need them."""
+"""Stands: [20] to [22], and the cheapest ways between them: [26]."""
 
 import itertools
 import operator
 import unittest
 
-from samples import caught, example, models
+from samples import BARS, COSTS, NEEDS, PEGS, caught, example, grown_models, models
 
 from needpegs.boards import Board
 from needpegs.stands import Stand
+from needpegs.ways import Way
+
+# Boards that differ from the example in the order, one name, one cost, one need or one bar.
+OTHERS = (
+    Board(("a", "c", "b", "d"), needs=NEEDS, bars=BARS, costs=(1, 3, 2, 1)),
+    Board(("a", "b", "c", "e"), needs=NEEDS, bars=BARS, costs=COSTS),
+    Board(PEGS, needs=NEEDS, bars=BARS, costs=(1, 2, 3, 2)),
+    Board(PEGS, needs=NEEDS[:1], bars=BARS, costs=COSTS),
+    Board(PEGS, needs=NEEDS, costs=COSTS),
+)
 
 
 def triples():
     """Each board with its model and all pairs of its stands."""
-    for board, model in models():
+    for board, model in itertools.chain(models(), grown_models(6, 3)):
         for one, other in itertools.product(model.stands(), repeat=2):
             yield board, model, one, other
 
@@ -36,7 +46,7 @@ class ShapeTest(unittest.TestCase):
         self.assertTrue(stand == example()(("b", "a")))
         self.assertFalse(stand != example()(("b", "a")))
         others = (Board(("a", "b"))(("a", "b")), example()(("a",)), ("a", "b"), "Stand(a b)", None, 3, example())
-        for other in others:
+        for other in others + tuple(board(("a", "b")) for board in OTHERS):
             self.assertFalse(stand == other)
             self.assertTrue(stand != other)
 
@@ -69,7 +79,7 @@ class TwoStandsTest(unittest.TestCase):
                 self.assertEqual((board(one) | board(other)).pegs, model.ordered(set(one) | set(other)))
 
     def test_three_stands(self):
-        for board, model in models():
+        for board, model in itertools.chain(models(), grown_models(5, 3)):
             for one, two, three in itertools.product(model.stands(), repeat=3):
                 a, b, c = board(one), board(two), board(three)
                 twice = [peg for peg in model.pegs if (peg in one) + (peg in two) + (peg in three) >= 2]
@@ -78,19 +88,72 @@ class TwoStandsTest(unittest.TestCase):
                 self.assertIs(a.is_between(b, c), between)
 
     def test_no_match(self):
+        # The pegs of the two stands clash on the board of the example: NoMatch comes first.
         stand, same = example()(("a", "b")), example()(("a", "c"))
-        strange = Board(("a", "b", "c", "d"))(("a", "c"))
-        for call in (operator.and_, operator.or_, operator.xor, Stand.within, Stand.distance):
-            self.assertEqual(caught(call, stand, strange), ("NoMatch", "board"))
-        for call in (stand.middle, stand.is_between):
-            self.assertEqual(caught(call, strange, same), ("NoMatch", "board"))
-            self.assertEqual(caught(call, same, strange), ("NoMatch", "board"))
-            self.assertEqual(caught(call, strange, strange), ("NoMatch", "board"))
+        for strange in [board(("a", "c")) for board in OTHERS] + [OTHERS[0].empty]:
+            for call in (operator.and_, operator.or_, operator.xor, operator.sub, Stand.within, Stand.distance):
+                self.assertEqual(caught(call, stand, strange), ("NoMatch", "board"))
+                self.assertEqual(caught(call, strange, stand), ("NoMatch", "board"))
+            for call in (Stand.middle, Stand.is_between):
+                for places in itertools.product((same, strange), repeat=3):
+                    expected = None if places == (same,) * 3 or places == (strange,) * 3 else ("NoMatch", "board")
+                    self.assertEqual(caught(call, *places), expected)
+
+    def test_an_equal_board_made_anew(self):
+        again = Board(list(PEGS), needs=NEEDS[::-1] + NEEDS, bars=[("c", "b"), ("b", "c")], costs=list(COSTS))
+        one, other = example()(("a", "b")), again(("a", "c", "d"))
+        self.assertEqual(((one & other).pegs, one ^ other, one.distance(other)), (("a",), ("b", "c", "d"), 6))
+        self.assertEqual(caught(operator.or_, other, one), ("Barred", "c", "b"))
+        self.assertEqual((one | again(("d",))).pegs, ("a", "b", "d"))
+        self.assertEqual((one.within(other), again(("a",)).within(one)), (False, True))
+        self.assertEqual(one.middle(other, again(("d",))).pegs, ("a", "d"))
+        self.assertIs(again(("a",)).is_between(one, other), True)
+        self.assertEqual((one + (other - one)).pegs, other.pegs)
+        self.assertTrue(one == again(("b", "a")))
+
+    def test_arguments_stay(self):
+        a, b = example()(("a", "b")), example()(("a", "c", "d"))
+        for call in (operator.and_, operator.or_, operator.xor, operator.sub, Stand.within, Stand.distance):
+            caught(call, a, b)
+        for call in (Stand.middle, Stand.is_between):
+            call(a, b, b)
+        self.assertEqual((a.pegs, b.pegs), (("a", "b"), ("a", "c", "d")))
 
     def test_keywords(self):
         a, b = example()(("a", "b")), example()(("a",))
         self.assertEqual((a.within(other=b), a.distance(other=b)), (False, 2))
         self.assertEqual((a.middle(other=a, one=b).pegs, a.is_between(other=a, one=b)), (("a", "b"), True))
+
+
+class WayTest(unittest.TestCase):
+    def test_a_cheapest_way_between_all_stands(self):
+        for board, model, one, other in triples():
+            a, b = board(one), board(other)
+            way = b - a
+            self.assertIsInstance(way, Way)
+            self.assertEqual(way.board, board)
+            self.assertEqual((a + way).pegs, other)
+            self.assertEqual(sorted(turn.peg for turn in way.turns), sorted(set(one) ^ set(other)))
+            self.assertEqual(abs(way), sum(board.cost_of(peg) for peg in set(one) ^ set(other)))
+            self.assertEqual(b - a, way)
+
+    def test_a_chain_in_any_board_order(self):
+        for pegs in (tuple("abcdefghijkl"), tuple("lkjihgfedcba"), tuple("gahbicjdkelf")):
+            board = Board(pegs, needs=tuple(zip("bcdefghijkl", "abcdefghijk")))
+            whole = board(pegs)
+            self.assertEqual(repr(whole - board.empty), "Way(+a +b +c +d +e +f +g +h +i +j +k +l)")
+            self.assertEqual(repr(board.empty - whole), "Way(-l -k -j -i -h -g -f -e -d -c -b -a)")
+
+    def test_what_clashes_goes_out_before(self):
+        board = Board(("a", "b", "c", "d"), needs=(("b", "a"), ("d", "c")), bars=(("a", "c"),), costs=(7, 5, 3, 2))
+        way = board(("d", "c")) - board(("a", "b"))
+        self.assertEqual((repr(way), abs(way)), ("Way(-b -a +c +d)", 17))
+
+    def test_from_a_stand_to_itself(self):
+        for board, _ in models():
+            for stand in board.stands():
+                self.assertEqual((stand - stand), Way(board))
+        self.assertEqual(Board(()).empty - Board(()).empty, Way(Board(())))
 
 
 class TurningTest(unittest.TestCase):
@@ -114,7 +177,7 @@ class TurningTest(unittest.TestCase):
         return ("Needed", peg, needing[0]) if needing else None
 
     def test_put_and_take(self):
-        for board, model in models():
+        for board, model in itertools.chain(models(), grown_models(7, 3)):
             for pegs in model.stands():
                 for peg in model.pegs + ("q", ""):
                     self.check_turns(board, model, pegs, peg)
