@@ -3,7 +3,7 @@
 from needpegs.checks import check_costs, check_form, check_pegs, pair_places
 from needpegs.errors import NoBoard, NoMatch, NoPeg
 from needpegs.families import family_parts
-from needpegs.masks import names_in, places_in
+from needpegs.masks import joined, names_in, places_in
 from needpegs.names import right_name
 from needpegs.pairs import clash_pairs, need_pairs
 from needpegs.relations import above_masks, below_masks, clash_masks, needs_order, stand_masks
@@ -92,11 +92,7 @@ class Board:
 
     def __sub__(self, other):
         above = self.above(other)
-        left = [peg for peg in self._pegs if peg not in above]
-        # What a peg that is left needs is left, too.
-        needs = [(peg, needed) for peg, needed in need_pairs(self) if peg in left]
-        bars = [(peg, barred) for peg, barred in clash_pairs(self) if peg in left and barred in left]
-        return Board(left, needs=needs, bars=bars, costs=[self.cost_of(peg) for peg in left])
+        return self.only([peg for peg in self._pegs if peg not in above])
 
     def __call__(self, pegs):
         return Stand(self, pegs)
@@ -107,12 +103,12 @@ class Board:
 
     def stands(self):
         """All stands, first those with fewer pegs."""
-        for mask in stand_masks(self._below, self._clash, self._order):
-            yield Stand(self, self.pegs_of(mask))
+        for mask in self.masks_over(0, self.mask_of(self._pegs)):
+            yield self.stand_at(mask)
 
     def count_stands(self):
         """The number of stands."""
-        return len(stand_masks(self._below, self._clash, self._order))
+        return len(self.masks_over(0, self.mask_of(self._pegs)))
 
     def cost_of(self, peg):
         """The cost of a peg."""
@@ -153,6 +149,22 @@ class Board:
         """The pegs in a mask, in board order."""
         return names_in(self._pegs, mask)
 
+    def only(self, pegs):
+        """The board of some of the pegs, with their needs and clashes among each other."""
+        # Pairs tell also what pegs need through others, so nothing is lost with those that are left out.
+        needs = [(peg, needed) for peg, needed in need_pairs(self) if peg in pegs and needed in pegs]
+        bars = [(peg, barred) for peg, barred in clash_pairs(self) if peg in pegs and barred in pegs]
+        return Board(pegs, needs=needs, bars=bars, costs=[self.cost_of(peg) for peg in pegs])
+
+    def masks_over(self, start, free):
+        """The masks of all stands that have the pegs of a stand in and of the others only some in a mask."""
+        order = [place for place in self._order if (free >> place) & 1]
+        return stand_masks(self._below, self._clash, order, start)
+
+    def stand_at(self, mask):
+        """The stand with the pegs in a mask."""
+        return Stand(self, self.pegs_of(mask))
+
     def pegs_by_needs(self, mask):
         """The pegs in a mask, each behind those that it needs."""
         return [self._pegs[place] for place in self._order if (mask >> place) & 1]
@@ -172,3 +184,15 @@ class Board:
     def clash_mask(self, place):
         """The mask of the pegs that clash with the peg at a place."""
         return self._clash[place]
+
+    def below_all(self, mask):
+        """The mask of the pegs in a mask and all that they need."""
+        return joined(self._below, mask)
+
+    def above_all(self, mask):
+        """The mask of the pegs in a mask and all that need them."""
+        return joined(self._above, mask)
+
+    def clash_all(self, mask):
+        """The mask of the pegs that clash with some peg in a mask."""
+        return joined(self._clash, mask)

@@ -50,11 +50,14 @@ def needs_order(below):
     return [place for many, place in sorted([(len(places_in(row)), place) for place, row in enumerate(below)])]
 
 
-def stand_masks(below, clash, order):
-    """The masks of all stands, first those of fewer places; the order has each place behind those that it needs."""
-    masks = [0]
+def stand_masks(below, clash, order, start):
+    """The masks of all stands that add some places of an order to a stand, first those of fewer places.
+
+    The order has each place behind those that it needs.
+    """
+    masks = [start]
     for place in order:
-        # The part of a stand up to each place of this order is a stand, too, so every stand grows from smaller ones.
+        # A stand is still one without its last places of this order, so every stand grows from smaller ones.
         lone = 1 << place
         masks = masks + [mask | lone for mask in masks if below[place] & ~mask == lone and clash[place] & mask == 0]
     return sorted(masks, key=listing_key)

@@ -1,7 +1,7 @@
 """Turns: each puts one peg in or takes one peg out, on whatever board."""
 
 from needpegs.errors import NoText
-from needpegs.names import right_name
+from needpegs.names import right_turn
 
 
 class Turn:
@@ -10,12 +10,9 @@ class Turn:
     @staticmethod
     def read(text):
         """The turn with this text: a sign followed by a name."""
-        peg = text[1:]
-        if right_name(peg) and text[0] == "+":
-            return Put(peg)
-        if right_name(peg) and text[0] == "-":
-            return Take(peg)
-        raise NoText(0)
+        if not right_turn(text):
+            raise NoText(0)
+        return Put(text[1:]) if text[0] == "+" else Take(text[1:])
 
 
 class Put(Turn):

@@ -17,6 +17,9 @@ ODD = (
 )
 
 
+TWELVE = tuple("abcdefghijkl")
+
+
 def example():
     """The board of the document's examples, made anew."""
     return Board(PEGS, needs=NEEDS, bars=BARS, costs=COSTS)
@@ -29,6 +32,11 @@ def caught(call, *values, **named):
     except (ValueError, KeyError) as error:
         return (type(error).__name__, *vars(error).values())
     return None
+
+
+def first_error(generator):
+    """The error that a generator raises when its first value is asked for, or before, as above."""
+    return caught(lambda: next(generator()))
 
 
 class Model:
@@ -64,6 +72,9 @@ class Model:
 
     def is_dead(self, peg):
         return any((p, q) in self.bars for p in self.below[peg] for q in self.below[peg])
+
+    def meets(self, pegs, inside, outside):
+        return set(inside) <= set(pegs) and not set(outside) & set(pegs)
 
     def ordered(self, pegs):
         return tuple(peg for peg in self.pegs if peg in pegs)
@@ -119,3 +130,32 @@ def models():
             if not model.is_circular() and not any(model.is_dead(peg) for peg in pegs):
                 yield Board(pegs, needs=needs, bars=bars, costs=(5, 7, 11)), model
     yield example(), Model(PEGS, NEEDS, BARS)
+
+
+def strange_boards():
+    """Boards that differ from the example in the order, one name, one cost, one need or one bar."""
+    return (
+        Board(("a", "c", "b", "d"), needs=NEEDS, bars=BARS, costs=(1, 3, 2, 1)),
+        Board(("a", "b", "c", "e"), needs=NEEDS, bars=BARS, costs=COSTS),
+        Board(PEGS, needs=NEEDS, bars=BARS, costs=(1, 2, 3, 2)),
+        Board(PEGS, needs=NEEDS[:1], bars=BARS, costs=COSTS),
+        Board(PEGS, needs=NEEDS, costs=COSTS),
+    )
+
+
+def example_again():
+    """A board that equals the example, told in other words."""
+    return Board(list(PEGS), needs=NEEDS[::-1] + NEEDS, bars=[("c", "b"), ("b", "c")], costs=list(COSTS))
+
+
+def half_read(test, generator):
+    """Leaves a generator at every place and asks anew; reads two at once."""
+    whole = list(generator())
+    for many in range(len(whole) + 1):
+        left = generator()
+        test.assertEqual([next(left) for _ in range(many)], whole[:many])
+        test.assertEqual(list(generator()), whole)
+        test.assertEqual(list(left), whole[many:])
+    one, other = generator(), generator()
+    test.assertEqual([pair for pair in zip(one, other)], [(value, value) for value in whole])
+    return whole

@@ -3,14 +3,13 @@
 import itertools
 import unittest
 
-from samples import ODD, caught, example, grown, grown_models, models, numbers
+from samples import ODD, TWELVE, caught, example, grown, grown_models, models, numbers
 
 from needpegs.boards import Board
 from needpegs.errors import NoFamily
 from needpegs.families import family_of, witness_holds
 
 WORDS = ("empty", "middle", "fixed", "", "Empty", "need", "middle ", "circle")
-TWELVE = tuple("abcdefghijkl")
 NAMES = ("a", "b", "c")
 
 

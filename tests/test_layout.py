@@ -40,22 +40,57 @@ INTERFACE = {
                   "__add__": None, "__sub__": None, "__len__": None, "__contains__": None, "__bool__": None,
                   "__eq__": None, "__repr__": None},
     },
+    "wishes": {
+        "Wish": {"__init__": ("self", "inside", "outside"), "inside": None, "outside": None,
+                 "obstacle": ("self", "board"), "obstacle_holds": ("self", "board", "value"),
+                 "forced": ("self", "board"), "stands": ("self", "board"), "__call__": ("self", "stand"),
+                 "__contains__": None, "__and__": None, "__bool__": None, "__eq__": None, "__repr__": None},
+    },
+    "crowds": {
+        "Crowd": {"__init__": ("self", "board"), "names": None, "whole": None, "load": ("self", "name"),
+                  "set_load": ("self", "name", "load"), "drop": ("self", "name"), "carried": ("self", "peg"),
+                  "total": ("self", "stand"), "best": ("self", "wish"), "bound": ("self", "wish"),
+                  "is_best": ("self", "stand", "wish"), "all_best": ("self", "wish"), "__getitem__": None,
+                  "__setitem__": None, "__iter__": ("self",), "__len__": None, "__contains__": None},
+    },
 }
 FUNCTIONS = {
     "texts": {"show_board": ("board",)},
+    "between": {
+        "precedence": ("a", "b"), "orders": ("a", "b"), "count_orders": ("a", "b"), "stands_between": ("a", "b"),
+        "count_between": ("a", "b"), "rounds": ("a", "b"), "longest_chain": ("a", "b"),
+        "rounds_lead": ("a", "b", "value"),
+    },
+    "wishes": {"gap": ("board", "one", "other"), "around": ("stands",)},
+    "derived": {
+        "narrowed": ("board", "wish"), "widened": ("board", "wish", "stand"), "seen_from": ("origin",),
+        "seen": ("stand", "origin"),
+    },
     "families": {"family_of": ("board",), "witness_holds": ("sets", "word", "value")},
 }
 PROPERTIES = (
     ("boards", "Board", ("pegs", "empty")),
     ("stands", "Stand", ("board", "pegs", "free", "loose")),
     ("ways", "Way", ("board", "turns")),
+    ("wishes", "Wish", ("inside", "outside")),
+    ("crowds", "Crowd", ("names", "whole")),
+)
+# The last parameters of methods, each with its default and whether it goes by its name alone.
+DEFAULTS = (
+    ("boards", "Board", "__init__", [("needs", (), True), ("bars", (), True), ("costs", None, True)]),
+    ("ways", "Way", "__init__", [("turns", (), False)]),
+    ("wishes", "Wish", "__init__", [("inside", (), False), ("outside", (), False)]),
+    ("crowds", "Crowd", "best", [("wish", None, True)]),
+    ("crowds", "Crowd", "bound", [("wish", None, True)]),
+    ("crowds", "Crowd", "is_best", [("wish", None, True)]),
+    ("crowds", "Crowd", "all_best", [("wish", None, True)]),
 )
 BUILTINS = set("""
 len range enumerate zip min max sum abs sorted reversed int str bool bytes list tuple dict set isinstance ord repr any
 all divmod Exception ValueError TypeError KeyError IndexError LookupError NotImplemented iter next map
 property staticmethod classmethod super
 """.split())
-METHODS = set("append bit_length get join split".split())
+METHODS = set("append bit_length get items join pop split values".split())
 
 
 def trees():
@@ -108,6 +143,17 @@ class InterfaceTest(unittest.TestCase):
         self.assertIsInstance(vars(boards.Board)["of_family"], classmethod)
         self.assertTrue(inspect.isgeneratorfunction(ways.Way.stands))
         self.assertTrue(inspect.isgeneratorfunction(boards.Board.stands))
+        wishes, crowds = [importlib.import_module(f"needpegs.{word}") for word in ("wishes", "crowds")]
+        self.assertTrue(inspect.isgeneratorfunction(wishes.Wish.stands))
+        self.assertTrue(inspect.isgeneratorfunction(crowds.Crowd.all_best))
+
+    def test_defaults_and_what_goes_by_name_alone(self):
+        for module, name, member, told in DEFAULTS:
+            kind = getattr(importlib.import_module(f"needpegs.{module}"), name)
+            parameters = inspect.signature(vars(kind)[member]).parameters.values()
+            found = [(one.name, one.default, one.kind is one.KEYWORD_ONLY) for one in parameters]
+            self.assertEqual(found[-len(told):], told, (name, member))
+            self.assertTrue(all(one[1] is inspect.Parameter.empty for one in found[:-len(told)]), (name, member))
 
     def test_attributes_of_turns_are_set_on_each_object(self):
         turns = importlib.import_module("needpegs.turns")

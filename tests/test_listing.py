@@ -4,11 +4,9 @@ import itertools
 import types
 import unittest
 
-from samples import NEEDS, PEGS, example, grown_models, models
+from samples import NEEDS, PEGS, TWELVE, example, grown_models, models
 
 from needpegs.boards import Board
-
-TWELVE = tuple("abcdefghijkl")
 
 
 def listed(board):

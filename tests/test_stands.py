@@ -4,20 +4,13 @@ import itertools
 import operator
 import unittest
 
-from samples import BARS, COSTS, NEEDS, PEGS, caught, example, grown_models, models
+from samples import caught, example, example_again, grown_models, models, strange_boards
 
 from needpegs.boards import Board
 from needpegs.stands import Stand
 from needpegs.ways import Way
 
-# Boards that differ from the example in the order, one name, one cost, one need or one bar.
-OTHERS = (
-    Board(("a", "c", "b", "d"), needs=NEEDS, bars=BARS, costs=(1, 3, 2, 1)),
-    Board(("a", "b", "c", "e"), needs=NEEDS, bars=BARS, costs=COSTS),
-    Board(PEGS, needs=NEEDS, bars=BARS, costs=(1, 2, 3, 2)),
-    Board(PEGS, needs=NEEDS[:1], bars=BARS, costs=COSTS),
-    Board(PEGS, needs=NEEDS, costs=COSTS),
-)
+OTHERS = strange_boards()
 
 
 def triples():
@@ -100,7 +93,7 @@ class TwoStandsTest(unittest.TestCase):
                     self.assertEqual(caught(call, *places), expected)
 
     def test_an_equal_board_made_anew(self):
-        again = Board(list(PEGS), needs=NEEDS[::-1] + NEEDS, bars=[("c", "b"), ("b", "c")], costs=list(COSTS))
+        again = example_again()
         one, other = example()(("a", "b")), again(("a", "c", "d"))
         self.assertEqual(((one & other).pegs, one ^ other, one.distance(other)), (("a",), ("b", "c", "d"), 6))
         self.assertEqual(caught(operator.or_, other, one), ("Barred", "c", "b"))

@@ -4,11 +4,9 @@ import itertools
 import operator
 import unittest
 
-from samples import COSTS, NEEDS, PEGS, Model, caught, example, grown, grown_models, models
+from samples import COSTS, NEEDS, PEGS, TWELVE, Model, caught, example, grown, grown_models, models
 
 from needpegs.boards import Board
-
-TWELVE = tuple("abcdefghijkl")
 
 
 def cost(peg):

@@ -4,13 +4,12 @@ import itertools
 import re
 import unittest
 
-from samples import caught, example, grown, grown_models, models
+from samples import TWELVE, caught, example, grown, grown_models, models
 
 from needpegs.boards import Board
 from needpegs.texts import show_board
 
 TEXT = "peg a 1\npeg b 2\npeg c 3\npeg d 1\nneeds b a\nneeds c a\nbars b c"
-TWELVE = tuple("abcdefghijkl")
 
 
 def first_wrong(text):

@@ -4,7 +4,7 @@ import itertools
 import operator
 import unittest
 
-from samples import BARS, COSTS, NEEDS, PEGS, caught, example, models
+from samples import BARS, COSTS, NEEDS, PEGS, caught, example, example_again, models
 
 from needpegs.boards import Board
 from needpegs.errors import Stuck
@@ -212,9 +212,7 @@ class LeadingTest(unittest.TestCase):
                 self.check_all(Way.read(example(), text), other.empty, [], ("NoMatch", "board"))
 
     def test_an_equal_board_made_anew(self):
-        again = Board(
-            list(PEGS), needs=NEEDS[::-1] + NEEDS, bars=[("c", "b"), ("b", "c")], costs=list(COSTS),
-        )
+        again = example_again()
         self.check_all(Way.read(example(), "+d +a"), again.empty, [(), ("d",), ("a", "d")], None)
         self.check_all(Way.read(again, "+a +b +c"), example().empty, [(), ("a",), ("a", "b")], ("Stuck", 2))
 
