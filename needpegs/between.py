@@ -133,7 +133,7 @@ def is_round(stand, row):
     """Whether a tuple of turns is a round from a stand: each order is possible if each order of each two is."""
     board = stand.board
     pegs = [turn.peg for turn in row]
-    if len(pegs) == 0 or len(set(pegs)) < len(pegs) or not all([peg in board for peg in pegs]):
+    if len(pegs) == 0 or len(set(pegs)) < len(pegs):
         return False
     puts = [turn.peg for turn in row if turn.sign == "+"]
     takes = [turn.peg for turn in row if turn.sign == "-"]

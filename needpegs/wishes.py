@@ -106,8 +106,6 @@ def gap(board, one, other):
     """Some pair of a stand that meets one wish and a stand that meets another one, as near as there are such."""
     one.check_pegs(board)
     other.check_pegs(board)
-    one.check_possible(board)
-    other.check_possible(board)
     # From any stand that meets the first wish to the nearest of the second and back: that is a nearest pair.
     far = other(one(board.empty))
     return one(far), far
@@ -117,8 +115,8 @@ def around(stands):
     """The wish for what all of some stands have in common."""
     if len(stands) == 0:
         raise NoMatch("none")
-    for stand in stands:
-        stands[0].check_board(stand)
+    for other in stands:
+        stands[0].check_board(other)
     pegs = stands[0].board.pegs
     inside = [peg for peg in pegs if all([peg in stand for stand in stands])]
     outside = [peg for peg in pegs if not any([peg in stand for stand in stands])]

@@ -53,7 +53,26 @@ INTERFACE = {
                   "is_best": ("self", "stand", "wish"), "all_best": ("self", "wish"), "__getitem__": None,
                   "__setitem__": None, "__iter__": ("self",), "__len__": None, "__contains__": None},
     },
+    "company": {
+        "Company": {"__init__": ("self", "board", "budget"), "enter": ("self", "name", "load"), "leave": ("self", "name"),
+                    "put_in": ("self", "name", "peg"), "take_out": ("self", "name", "peg"),
+                    "walk": ("self", "name", "way"), "obey": ("self", "name", "wish"), "gather": ("self", "wish"),
+                    "undo": ("self",), "several": ("self", "deeds", "whole"), "log": ("self",), "spent": None,
+                    "budget": None, "names": None, "stand": ("self", "name"), "load": ("self", "name"),
+                    "crowd": ("self",), "copied": ("self",), "held": ("self", "pegs"), "held_pegs": None,
+                    "trial": ("self",), "guarded": ("self", "pegs"), "__len__": None, "__contains__": None,
+                    "__repr__": None},
+    },
+    "blocks": {
+        "Hold": {"__enter__": ("self",), "__exit__": ("self", "kind", "value", "trace")},
+        "Trial": {"__enter__": ("self",), "__exit__": ("self", "kind", "value", "trace"), "keep": ("self",), "paid": None},
+        "Guard": {"__enter__": ("self",), "__exit__": ("self", "kind", "value", "trace"), "keep": ("self",), "paid": None},
+    },
+    "desk": {
+        "Desk": {"__init__": ("self",), "say": ("self", "command"), "__len__": None},
+    },
 }
+CLASSES_MADE_BY_A_COMPANY = ("Hold", "Trial", "Guard")
 FUNCTIONS = {
     "texts": {"show_board": ("board",)},
     "between": {
@@ -66,6 +85,7 @@ FUNCTIONS = {
         "narrowed": ("board", "wish"), "widened": ("board", "wish", "stand"), "seen_from": ("origin",),
         "seen": ("stand", "origin"),
     },
+    "plays": {"play": ("company", "items"), "within": ("block", "call")},
     "families": {"family_of": ("board",), "witness_holds": ("sets", "word", "value")},
 }
 PROPERTIES = (
@@ -74,6 +94,9 @@ PROPERTIES = (
     ("ways", "Way", ("board", "turns")),
     ("wishes", "Wish", ("inside", "outside")),
     ("crowds", "Crowd", ("names", "whole")),
+    ("company", "Company", ("spent", "budget", "names", "held_pegs")),
+    ("blocks", "Trial", ("paid",)),
+    ("blocks", "Guard", ("paid",)),
 )
 # The last parameters of methods, each with its default and whether it goes by its name alone.
 DEFAULTS = (
@@ -84,13 +107,17 @@ DEFAULTS = (
     ("crowds", "Crowd", "bound", [("wish", None, True)]),
     ("crowds", "Crowd", "is_best", [("wish", None, True)]),
     ("crowds", "Crowd", "all_best", [("wish", None, True)]),
+    ("company", "Company", "__init__", [("budget", None, True)]),
+    ("company", "Company", "enter", [("load", 1, False)]),
+    ("company", "Company", "gather", [("wish", None, True)]),
+    ("company", "Company", "several", [("whole", True, True)]),
 )
 BUILTINS = set("""
 len range enumerate zip min max sum abs sorted reversed int str bool bytes list tuple dict set isinstance ord repr any
 all divmod Exception ValueError TypeError KeyError IndexError LookupError NotImplemented iter next map
 property staticmethod classmethod super
 """.split())
-METHODS = set("append bit_length get items join pop split values".split())
+METHODS = set("append bit_length get items join pop replace split values".split())
 
 
 def trees():
@@ -235,8 +262,11 @@ class SubsetTest(unittest.TestCase):
             for node in ast.walk(tree):
                 if isinstance(node, ast.Call) and isinstance(node.func, ast.Attribute):
                     kinds = [kind for kind in (str, list, dict, tuple, set, int) if hasattr(kind, node.func.attr)]
-                    if kinds:
+                    if kinds and not self.is_call_of_a_base(node):
                         self.assertIn(node.func.attr, METHODS, (name, node.lineno))
+
+    def is_call_of_a_base(self, node):
+        return node.func.attr == "__init__" and node.func.value.id in INTERFACE["blocks"] and node.args[0].id == "self"
 
     def test_no_name_of_an_import_is_given_another_meaning(self):
         for name, tree in trees():
@@ -256,11 +286,53 @@ class SubsetTest(unittest.TestCase):
                     ast.literal_eval(node.value)
 
     def test_properties_are_not_attributes_anywhere(self):
-        found = {member for module, name, members in PROPERTIES for member in members}
+        found = {member for module, name, members in PROPERTIES for member in members} - {"budget"}
         for name, tree in trees():
             for node in ast.walk(tree):
                 if isinstance(node, ast.Attribute) and not isinstance(node.ctx, ast.Load):
                     self.assertNotIn(node.attr, found, (name, node.lineno))
+                    # The only property that can be assigned is assigned off a company alone.
+                    self.assertTrue(node.attr != "budget" or node.value.id == "company", (name, node.lineno))
+
+    def test_no_name_is_a_method_and_an_attribute(self):
+        methods, attributes = set(), set()
+        for _, tree in trees():
+            for node in ast.walk(tree):
+                if isinstance(node, ast.ClassDef):
+                    methods |= {part.name for part in node.body if isinstance(part, ast.FunctionDef)}
+                elif isinstance(node, ast.Attribute) and not isinstance(node.ctx, ast.Load):
+                    attributes.add(node.attr)
+        self.assertEqual(methods & attributes, {"budget"})
+
+    def test_no_barred_names(self):
+        barred = set("""_cold _tuplegetter _outside _record _written_out _member_names register mro elements open input law
+            version_info with_traceback add_note args format""".split())
+        for name, tree in trees():
+            for node in ast.walk(tree):
+                words = [getattr(node, field, None) for field in ("id", "attr", "arg", "name", "asname")]
+                self.assertFalse(barred & {word for word in words if isinstance(word, str)}, (name, words))
+                if isinstance(node, (ast.arg, ast.FunctionDef)):
+                    word = node.arg if isinstance(node, ast.arg) else node.name
+                    self.assertNotIn(word, vars(builtins), name)
+
+    def test_what_stands_at_the_end_of_blocks(self):
+        for name, tree in trees():
+            for node in ast.walk(tree):
+                if isinstance(node, ast.FunctionDef) and node.name == "__exit__":
+                    self.assertEqual([one.arg for one in node.args.args], ["self", "kind", "value", "trace"])
+                    self.assertEqual(ast.unparse(node.body[0]), "company = self.company", name)
+                    for row in node.body[1:]:
+                        self.check_row(row)
+
+    def check_row(self, row):
+        """A plain assignment of an attribute, or one under a test of what is None."""
+        if isinstance(row, ast.If):
+            self.assertEqual(ast.unparse(row.test), "kind is not None or self.kept is None")
+            self.assertEqual((len(row.body), row.orelse), (1, []))
+            row = row.body[0]
+        self.assertIsInstance(row, ast.Assign)
+        for side in (*row.targets, row.value):
+            self.assertTrue(isinstance(side, ast.Attribute) and isinstance(side.value, ast.Name))
 
 
 if __name__ == "__main__":
